@@ -38,16 +38,39 @@ func Depth(n api.Node) int {
 // Same: the same nodes?
 func Same(a, b api.Node) bool {
 	left, right := []api.Node{a}, []api.Node{b}
+	came := map[pair]int{}
 	for len(left) > 0 {
 		last := len(left) - 1
 		a, b = left[last], right[last]
 		if a.Kind != b.Kind || a.A != b.A || a.B != b.B || len(a.Kids) != len(b.Kids) {
 			return false
 		}
-		left = append(left[:last], a.Kids...)
-		right = append(right[:last], b.Kids...)
+		left, right = left[:last], right[:last]
+		if fresh(came, a.Kids, b.Kids) {
+			left = append(left, a.Kids...)
+			right = append(right, b.Kids...)
+		}
 	}
 	return true
+}
+
+// A pair is two lists of Kids, as memory, that are held against each other.
+type pair struct {
+	left, right *api.Node
+	size        int
+}
+
+// fresh: has a pair of lists, of the same length, something to be looked at,
+// and didn't it come already? What stands in each other twice and again, or
+// holds itself, would be looked at without end, if each came each time.
+func fresh(came map[pair]int, left, right []api.Node) bool {
+	if len(left) == 0 {
+		return false
+	}
+	p := pair{&left[0], &right[0], len(left)}
+	_, old := came[p]
+	came[p] = len(came)
+	return !old
 }
 
 // fits: has a node what its kind must have, and nothing else? Its Kids may be

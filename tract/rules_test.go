@@ -3,6 +3,7 @@ package tract_test
 import (
 	"reflect"
 	"runtime/debug"
+	"slices"
 	"strings"
 	"testing"
 	"unsafe"
@@ -312,6 +313,57 @@ func TestP9DeepAndGreatNodes(t *testing.T) {
 	}
 	if _, f := tract.Build(good); f != api.ErrFull {
 		t.Errorf("Build of a good deep node: %d", f)
+	}
+}
+
+// shared is a node whose lists stand in each other twice: of far more nodes
+// than can be gone through one by one.
+func shared(last node) node {
+	n := last
+	for range 60 {
+		n = union(n, n)
+	}
+	return n
+}
+
+// endless is a node whose list holds itself, behind so many others.
+func endless(lead int, first node) node {
+	l := []node{first, {Kind: api.Union}}
+	l[1].Kids = l
+	n := l[1]
+	for range lead {
+		n = union(first, n)
+	}
+	return n
+}
+
+// R7: Same takes any nodes, also those that have no end, or as good as none:
+// they are the same, if no part of them is another one.
+func TestP9SameOfEndlessNodes(t *testing.T) {
+	some := func() []node {
+		return []node{
+			shared(this()), shared(computed("a")), endless(0, this()), endless(0, computed("a")), endless(0, shared(this())),
+			endless(1, except(this(), this())), union(this(), endless(3, computed("a"))), meet(this(), endless(0, this())), union(this(), union(this(), this())),
+		}
+	}
+	others := some()
+	for k, a := range some() {
+		for j, b := range others {
+			if tract.Same(a, b) != (k == j) {
+				t.Errorf("Same of nodes %d and %d isn't %v", k, j, k == j)
+			}
+		}
+	}
+	for lead := range 5 {
+		if !tract.Same(endless(lead, this()), endless(0, this())) || !tract.Same(endless(2, this()), endless(lead, this())) || tract.Same(endless(lead, this()), endless(1, computed("a"))) {
+			t.Errorf("Same of nodes that hold themselves, %d deep", lead)
+		}
+	}
+	// Lists that begin at the same place, but aren't as long.
+	l, m := []node{this(), this(), this()}, []node{this(), this(), computed("a")}
+	parts := func(l []node) []node { return []node{union(l[:2]...), union(l...), union(l[:2]...)} }
+	if tract.Same(union(parts(l)...), union(parts(m)...)) || !tract.Same(union(parts(l)...), union(parts(slices.Clone(l))...)) {
+		t.Error("Same of lists that begin at the same place")
 	}
 }
 
