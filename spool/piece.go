@@ -1,6 +1,9 @@
 package spool
 
-import "stile/api"
+import (
+	"stile/api"
+	"stile/octet"
+)
 
 // Where on a sector its parts begin.
 const (
@@ -39,27 +42,27 @@ func partsOf(bytes int) int { return max(1, (bytes+mostPiece-1)/mostPiece) }
 func (p piece) sector() [api.Sector]byte {
 	var b [api.Sector]byte
 	b[0] = sign
-	put(b[epochAt:numberAt], p.epoch)
-	put(b[numberAt:partAt], p.number)
-	put(b[partAt:partsAt], p.part)
-	put(b[partsAt:sizeAt], p.parts)
-	put(b[sizeAt:bytesAt], len(p.bytes))
+	octet.Put(b[epochAt:numberAt], p.epoch)
+	octet.Put(b[numberAt:partAt], p.number)
+	octet.Put(b[partAt:partsAt], p.part)
+	octet.Put(b[partsAt:sizeAt], p.parts)
+	octet.Put(b[sizeAt:bytesAt], len(p.bytes))
 	copy(b[bytesAt:sumAt], p.bytes)
-	put(b[sumAt:], int(Sum(b[:sumAt])))
+	octet.Put(b[sumAt:], int(Sum(b[:sumAt])))
 	return b
 }
 
 // readPiece: the piece that stands on a sector, if it stands as it must.
 func readPiece(b [api.Sector]byte) (piece, bool) {
-	size := take(b[sizeAt:bytesAt])
+	size := octet.Take(b[sizeAt:bytesAt])
 	if size > mostPiece {
 		return piece{}, false
 	}
 	at := place{
-		epoch:  take(b[epochAt:numberAt]),
-		number: take(b[numberAt:partAt]),
-		part:   take(b[partAt:partsAt]),
-		parts:  take(b[partsAt:sizeAt]),
+		epoch:  octet.Take(b[epochAt:numberAt]),
+		number: octet.Take(b[numberAt:partAt]),
+		part:   octet.Take(b[partAt:partsAt]),
+		parts:  octet.Take(b[partsAt:sizeAt]),
 	}
 	p := piece{at, b[bytesAt : bytesAt+size : bytesAt+size]}
 	// Sign, noughts and sum are looked at by making the sector again.
@@ -79,20 +82,4 @@ func Sum(b []byte) uint32 {
 		}
 	}
 	return c
-}
-
-// put writes a number over all of b, the highest byte first.
-func put(b []byte, n int) {
-	for k := range b {
-		b[len(b)-1-k] = byte(n >> (8 * k))
-	}
-}
-
-// take is the number that put wrote.
-func take(b []byte) int {
-	n := 0
-	for _, x := range b {
-		n = n<<8 | int(x)
-	}
-	return n
 }
